@@ -1,0 +1,1 @@
+"""Webnames: one name for each web of parts, with papers."""
