@@ -91,6 +91,8 @@ class Statements(unittest.TestCase):
         self.assertEqual(statements("a : hand 0"), [("part", 1, "a", "hand", 0)])
         self.assertEqual(statements("a:side 9"), [("part", 1, "a", "side", 9)])
         self.assertEqual(statements("\n a:abcd - 9"), [("part", 2, "a", "abcd", -9)])
+        for mark in range(-9, 10):
+            self.assertEqual(statements(f"a: k {mark}"), [("part", 1, "a", "k", mark)])
         self.assertEqual(statements("a 4 a"), [("tie", 1, "a", "a", 4)])
         self.assertEqual(statements("a hand+b c d"), [("hand", 1, "a", ["b", "c", "d"], 1)])
         self.assertEqual(statements("a hand - a a a a"), [("hand", 1, "a", ["a", "a", "a", "a"], -1)])
@@ -224,6 +226,8 @@ class Read(unittest.TestCase):
         self.fails(parts + ties + "a b side + c e; b a side - e c", UnfitRow(3, "side"))
         self.fails(parts + ties + "a b side + c e\na b side + d e", UnfitRow(4, "side"))
         self.fails(parts + ties + "a 1 f\na b side + c e", UnfitRow(4, "side"))
+        self.fails(parts + ties + "b 1 f; b 1 g\na b side + c e", UnfitRow(4, "side"))
+        self.fails(parts + "b 2 a; a 1 c; b 1 d; b 1 e; b 1 f\na b side + c d", UnfitRow(3, "side"))
         self.fails(parts + "a 2 b; a 1 c\na b side + c c", UnfitRow(3, "side"))
         self.fails(parts + "a 2 b; b 1 c\na b side + c c", UnfitRow(3, "side"))
         self.assertEqual(read_web(parts + "a 2 b; b 1 c; c 1 a; a b side - c c")[0][3], [(0, 1, -1)])

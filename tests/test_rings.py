@@ -53,6 +53,8 @@ class Rings(unittest.TestCase):
             self.assertIs(is_ring(web, value), False)
         square = ([K] * 4, [(0, 1, 1), (0, 3, 1), (1, 2, 1), (2, 3, 1)], [], [])
         self.assertEqual([is_ring(square, row) for row in ([0, 1, 2, 3], [0, 1, 2], [0, 2, 1, 3])], [True, False, False])
+        single = ([K] * 6, [(3, 4, 1), (3, 5, 1), (4, 5, 1)], [], [])
+        self.assertEqual([is_ring(single, row) for row in ([3, 4, 5], [0, 1, 2], [3, 4, 6])], [True, False, False])
         for value in ANY_VALUES:
             self.assertIs(is_ring(web, value), False)
             self.assertIs(is_ring(web, [0, 1, value]), False)
@@ -66,6 +68,7 @@ class Rings(unittest.TestCase):
                     self.assertIs(is_ring(web, value), kinds and value in rings)
 
     def test_is_tie_set(self):
+        self.assertEqual([is_tie_set(whole(4), row) for row in ([5], [4, 5], [6])], [True, True, False])
         web = whole(3)
         for value in ([], [0], [2], [0, 2], [0, 1, 2]):
             self.assertIs(is_tie_set(web, value), True)
@@ -149,6 +152,12 @@ class AllRings(unittest.TestCase):
         self.assertEqual(rings_to(bridged, 3)[0], [0, 1, 2])
         with self.assertRaises(TooMany):
             rings_to(bridged, 24)
+        far = [(a + 4, b + 4) for k in range(20) for a, b in ((k, (k + 1) % 20), (k, (k + 2) % 20))]
+        far = [(min(pair), max(pair), 1) for pair in far]
+        great = ([K] * 24, sorted(ties + [(3, 4, 1)] + far), [], [])
+        self.assertEqual(len(rings_to(great, 3)), 21)
+        with self.assertRaises(TooMany):
+            rings_to(great, 24)
 
     def test_bound_of_ties(self):
         five = whole(5)

@@ -123,7 +123,7 @@ class Webs(unittest.TestCase):
                 self.assertIs(is_web((web[0], web[1], [(0, sign)], [])), many in (3, 4))
         web = star(3)
         for hands in ([(0, 0)], [(0, 2)], [(0, True)], [(False, 1)], [[0, 1]], [(0,)], [(0, 1, 1)], [(0, 1), (0, 1)],
-                      [(0, 1), (0, -1)], [(1, 1)], [(4, 1)], [(-1, 1)], [None], [("0", 1)]):
+                      [(0, 1), (0, -1)], [(0, -1), (0, 1)], [(1, 1)], [(4, 1)], [(-1, 1)], [None], [("0", 1)]):
             self.assertIs(is_web((web[0], web[1], hands, [])), False, hands)
         two = ([K] * 6, [(0, 1, 1), (0, 2, 1), (0, 3, 1), (1, 4, 1), (1, 5, 1)], [(0, 1), (1, -1)], [])
         self.assertIs(is_web(two), True)
@@ -140,7 +140,7 @@ class Webs(unittest.TestCase):
                     self.assertIs(can_bear_sides(web, 1, 0), right)
         web = double(2, 1)
         for sides in ([(1, 0, 1)], [(0, 1, 0)], [(0, 1, True)], [(False, 1, 1)], [(0, True, 1)], [[0, 1, 1]],
-                      [(0, 1)], [(0, 1, 1), (0, 1, 1)], [(0, 2, 1)], [(0, 9, 1)], [None], [(0, 0, 1)]):
+                      [(0, 1)], [(0, 1, 1), (0, 1, 1)], [(0, 1, -1), (0, 1, 1)], [(0, 2, 1)], [(0, 9, 1)], [None], [(0, 0, 1)]):
             self.assertIs(is_web((web[0], web[1], [], sides)), False, sides)
 
     def test_ring_of_three(self):
