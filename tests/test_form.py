@@ -9,7 +9,7 @@ FOLDER = os.path.join(os.path.dirname(os.path.dirname(os.path.abspath(__file__))
 BUILTINS = set(
     "len range enumerate zip min max sum abs sorted reversed int str bool bytes list tuple dict set isinstance ord "
     "repr any all divmod pow Exception ValueError TypeError KeyError IndexError LookupError ZeroDivisionError "
-    "ArithmeticError OverflowError RuntimeError NotImplementedError map iter next".split())
+    "ArithmeticError OverflowError RuntimeError NotImplementedError map iter next property".split())
 METHODS = set(
     "append clear copy count endswith extend find get index insert isalnum isalpha isdigit islower isspace isupper "
     "items join keys ljust lower lstrip partition pop remove replace reverse rfind rjust rpartition rsplit rstrip "
@@ -81,7 +81,8 @@ class Form(unittest.TestCase):
         for name, node in all_nodes():
             if isinstance(node, ast.FunctionDef):
                 self.assertLessEqual(node.end_lineno - node.lineno + 1, 40, (name, node.name))
-                self.assertEqual(node.decorator_list, [])
+                for mark in node.decorator_list:
+                    self.assertEqual(ast.dump(mark), ast.dump(ast.Name("property", ast.Load())))
 
     def test_imports(self):
         needs = {name: set() for name in TREES}
@@ -131,6 +132,23 @@ class Form(unittest.TestCase):
             named = inside | set(bound_at_top(tree))
             self.assertFalse(named & ALL_BUILTINS, name)
             self.assertFalse(named & BARRED, name)
+
+    def test_properties(self):
+        properties = {node.name for _, node in all_nodes() if isinstance(node, ast.FunctionDef) and node.decorator_list}
+        for name, node in all_nodes():
+            if isinstance(node, ast.Attribute) and isinstance(node.ctx, ast.Store):
+                self.assertNotIn(node.attr, properties, (name, node.lineno))
+        names = [node.id for _, node in all_nodes() if isinstance(node, ast.Name) and node.id == "property"]
+        self.assertEqual(len(names), 2)
+
+    def test_methods_are_no_attributes(self):
+        for name, node in all_nodes():
+            if isinstance(node, ast.ClassDef):
+                methods = [x.name for x in node.body if isinstance(x, ast.FunctionDef)]
+                self.assertEqual(len(set(methods)), len(methods), node.name)
+                for inner in ast.walk(node):
+                    if isinstance(inner, ast.Attribute) and isinstance(inner.ctx, ast.Store):
+                        self.assertNotIn(inner.attr, methods, (name, node.name))
 
     def test_what_is_used(self):
         methods = {node.name for _, node in all_nodes() if isinstance(node, ast.FunctionDef)}

@@ -111,7 +111,7 @@ class Walk:
             self.near[b].append((a, place))
         self.when = [0] * len(web[0])
         self.low = [0] * len(web[0])
-        self.many = 0
+        self.met = 0
         self.open_ties = []
         self.found = []
         for part in range(len(web[0])):
@@ -120,8 +120,8 @@ class Walk:
 
     def go_to(self, part, came_by):
         """Meets the part, over the tie at the place came_by, and all that is new behind it."""
-        self.many += 1
-        self.when[part] = self.low[part] = self.many
+        self.met += 1
+        self.when[part] = self.low[part] = self.met
         for other, place in self.near[part]:
             if self.when[other] == 0:
                 ahead = len(self.open_ties)
