@@ -69,6 +69,16 @@ def double(sides=1, ends=(K, K, K, K)):
     return ([K, K] + list(ends), [(0, 1, 2), (0, 2, 1), (0, 3, 1), (1, 4, 1), (1, 5, 1)], [], [(0, 1, sides)])
 
 
+def ring_with(leaps):
+    """A ring of as many parts as leaps has numbers, each tied with the part so many ahead, too."""
+    many = len(leaps)
+    pairs = {(k, (k + 1) % many) for k in range(many)} | {(k, (k + leap) % many) for k, leap in enumerate(leaps)}
+    return ([K] * many, sorted({(min(pair), max(pair), 1) for pair in pairs}), [], [])
+
+
+# Twelve parts with three ties each and no symmetry but the straight one.
+FRUCHT = ring_with((-5, -2, -4, 2, 5, -2, 2, 5, -2, -5, 4, 2))
+
 SHAPES = [
     alone(0), alone(1), alone(2), alone(5), row(2), row(3), row(5, orders=(1, 2)), ring(3), ring(4), ring(6),
     beside(ring(3), ring(3)), beside(ring(3), ring(4)), star(3), star(3, 1), star(3, -1), star(4), star(4, 1), star(5),
@@ -78,6 +88,7 @@ SHAPES = [
     ([K] * 6, [(0, 2, 1), (1, 2, 1), (2, 3, 2), (3, 4, 1), (3, 5, 1)], [], [(2, 3, -1)]),
     ([K] * 4, [(0, 1, 2), (0, 3, 2), (1, 2, 2), (2, 3, 2)], [], [(0, 1, 1), (0, 3, 1), (1, 2, 1), (2, 3, 1)]),
     ([K] * 4, [(0, 1, 1), (0, 2, 1), (0, 3, 1), (1, 2, 1), (1, 3, 1), (2, 3, 1)], [(0, 1), (1, 1), (2, 1), (3, -1)], []),
+    FRUCHT, beside(ring(4), ring(3)), ring_with((3, -2, 2) * 2), ring_with((4, -2, 4, 2) * 2),
 ]
 
 

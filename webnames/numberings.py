@@ -1,7 +1,7 @@
 """Numberings, their signs and rounds, and webs renumbered."""
 
 from webnames.basics import check_many, has_each_number, list_sign, ranked
-from webnames.webs import MOST_PARTS, further, neighbours
+from webnames.webs import MOST_PARTS, further, near_lists, neighbours
 
 
 def is_numbering(value, many):
@@ -76,10 +76,12 @@ def renumbered(web, numbering):
     """The web renumbered."""
     parts = [web[0][part] for part in back(numbering)]
     ties = [ends_led(a, b, numbering) + (order,) for a, b, order in web[1]]
-    hands = [(numbering[part], sign * led_sign(neighbours(web, part), numbering)) for part, sign in web[2]]
+    near = near_lists(len(parts), web[1])
+    hands = [(numbering[part], sign * led_sign(near[part], numbering)) for part, sign in web[2]]
     sides = []
     for a, b, sign in web[3]:
-        turned = sign * led_sign(further(web, a, b), numbering) * led_sign(further(web, b, a), numbering)
+        beyond_a, beyond_b = [x for x in near[a] if x != b], [y for y in near[b] if y != a]
+        turned = sign * led_sign(beyond_a, numbering) * led_sign(beyond_b, numbering)
         sides.append(ends_led(a, b, numbering) + (turned,))
     return (parts, sorted(ties), sorted(hands), sorted(sides))
 
