@@ -14,6 +14,10 @@ STAR = ([K, ("a", 0), ("b", 1), ("a", 0)], [(0, 1, 1), (0, 2, 1), (0, 3, 1)], [(
 ROW = ([K] * 6, [(0, 2, 1), (1, 2, 1), (2, 3, 2), (3, 4, 1), (3, 5, 1)], [], [(2, 3, -1)])
 NET = ([K] * 6, [(0, 1, 1), (0, 2, 1), (1, 2, 2), (1, 3, 1), (2, 3, 1), (3, 4, 1)], [(1, 1), (3, -1)], [(1, 2, 1)])
 TURN, FLIP = [1, 2, 3, 0], [0, 3, 2, 1]
+RING = ([K] * 4, [(0, 1, 1), (0, 3, 1), (1, 2, 1), (2, 3, 1)], [], [])
+HANDED = ([("c", 0)] + [K] * 4, [(0, 1, 1), (0, 2, 1), (0, 3, 1), (0, 4, 1)], [(0, 1)], [])
+PATCH = ([K] * 7, [(0, 1, 1), (0, 3, 1), (1, 2, 1), (2, 3, 1), (4, 5, 1), (4, 6, 1), (5, 6, 1)], [], [])
+SWAP, SWAPS = ([K] * 2, [], [], []), [(0, [("to", 0, [0, 1]), ("to", 1, [1, 0])])]
 PAPER = ([("stay",), ("given", 0), ("then", 1, 1)], [[(0, 0), (1, 1), (2, 2)], [(1, 0)], [(2, 0)]])
 TEXT = "a: k; b: n -1; c: k; d: k; a 1 b; a 1 c; a 1 d; a hand + d c b # x"
 
@@ -128,6 +132,129 @@ CALLS = {
         ("keeps_sequence", {"colouring": [1, 0], "other": [0, 0]}),
         ("colouring_led", {"colouring": [1, 0], "numbering": [0, 1]}),
     ],
+    "rounds": [
+        ("round_key", {"web": NET, "colouring": [0] * 6, "part": 1}), ("one_round", {"web": NET, "colouring": [0] * 6}),
+        ("one_round", {"web": RING, "colouring": [0] * 4}), ("is_even", {"web": RING, "colouring": [0] * 4}),
+        ("rounds_of", {"web": NET, "colouring": [0] * 6}), ("rounds_of", {"web": RING, "colouring": [0] * 4}),
+        ("refined", {"web": RING, "colouring": [0] * 4}), ("refined", {"web": NET, "colouring": [0] * 6}),
+        ("refined", {"web": RING, "colouring": [3, 1, 0, 2]}), ("singled", {"web": RING, "colouring": [0] * 4, "part": 2}),
+        ("singled", {"web": RING, "colouring": [3, 1, 0, 2], "part": 2}),
+        ("apart_after", {"web": ROW, "colouring": [0] * 6, "a": 0, "b": 2}),
+        ("unfolding", {"web": NET, "colouring": [0] * 6, "part": 1, "many": 2}),
+    ],
+    "coarsest": [
+        ("coarsest_even", {"web": NET, "colouring": [0] * 6}), ("finer_many", {"colouring": [0, 0, 1]}),
+        ("first_odd", {"web": NET, "colouring": [0] * 6}), ("table_of", {"web": RING, "colouring": [0] * 4}),
+        ("card_of", {"web": NET}),
+    ],
+    "worklists": [
+        ("even_cells", {"web": NET, "colouring": [0] * 6}), ("refined_fast", {"web": RING, "colouring": [0] * 4}),
+        ("coloured", {"web": RING, "colouring": [0] * 4, "parted": [[0, 1, 2, 3]]}),
+        ("singled_fast", {"web": RING, "colouring": [0] * 4, "part": 3}),
+    ],
+    "pairings": [
+        ("all_numberings", {"many": 3}), ("all_pairings", {"web": RING, "other": RING}),
+        ("by_colours", {"web": RING, "other": RING}), ("first_pairing", {"web": NET, "other": NET}),
+    ],
+    "leastforms": [
+        ("least_of_all", {"web": NET}), ("least_by_parts", {"web": NET}), ("least_numberings", {"web": RING}),
+        ("all_alike", {"web": STAR}), ("invariants", {"web": NET}), ("parted_by", {"web": NET, "other": ROW}),
+    ],
+    "paths": [
+        ("is_path", {"web": NET, "value": [1, 0]}), ("is_tree_path", {"web": RING, "value": [1]}),
+        ("colouring_at", {"web": RING, "path": []}), ("cells_at", {"web": RING, "path": [1]}),
+        ("trace_at", {"web": RING, "path": [1]}), ("traces_to", {"web": RING, "path": [1, 2]}),
+        ("is_leaf", {"web": RING, "path": [1]}), ("target_at", {"web": RING, "path": [1]}),
+        ("branches_at", {"web": RING, "path": [1]}), ("first_leaf", {"web": RING, "path": [1]}),
+        ("first_leaf", {"web": RING, "path": [1, 0]}), ("path_led", {"path": [1, 0], "numbering": TURN}),
+    ],
+    "fulltree": [
+        ("leaves_below", {"web": RING, "path": [1]}), ("leaves_below", {"web": RING, "path": [1, 0]}),
+        ("leaves", {"web": RING}), ("leaf_web", {"web": RING, "path": [1, 0]}),
+        ("key_of_leaf", {"web": RING, "path": [1, 0]}), ("least_key", {"web": RING, "path": []}),
+        ("best_leaves", {"web": RING, "path": [1]}), ("best_leaves", {"web": RING, "path": [1, 0]}),
+        ("key_counts", {"web": HANDED}), ("tree_profile", {"web": PATCH}),
+        ("leaf_with", {"web": RING, "numbering": [0, 1, 3, 2]}),
+        ("leaf_symmetry", {"web": RING, "path": [1, 0], "far": [2, 3]}),
+    ],
+    "names": [
+        ("form", {"web": NET}), ("name", {"web": NET}), ("pointed_form", {"web": RING, "path": [2]}),
+        ("pointed_name", {"web": RING, "path": [2]}), ("numbering_to_form", {"web": NET}),
+        ("pairing_by_forms", {"web": RING, "other": RING}), ("is_alike", {"web": RING, "other": NET}),
+        ("is_form", {"web": NET}),
+    ],
+    "prune": [
+        ("kept_orbit", {"numberings": [TURN, FLIP], "path": [0], "part": 1}),
+        ("led", {"many": 4, "numberings": [TURN, FLIP], "path": [], "first": 0, "second": 1}),
+        ("led", {"many": 4, "numberings": [TURN], "path": [], "first": 1, "second": 1}),
+        ("spared_at", {"numberings": [TURN, FLIP], "path": [0, 3], "start": 0}),
+        ("is_later", {"traces": [[3], [1, 2]], "best": [[3], [1, 1, 1]]}),
+    ],
+    "search": [
+        ("searched", {"web": RING, "path": []}), ("searched", {"web": RING, "path": [1, 0]}), ("quick_form", {"web": NET}),
+        ("quick_pointed", {"web": RING, "path": [2]}), ("quick_name", {"web": NET}), ("quick_numbering", {"web": NET}),
+        ("quick_numbering", {"web": RING}), ("quick_pairing", {"web": RING, "other": RING}),
+    ],
+    "namepapers": [
+        ("paper_fault", {"web": RING, "path": [], "form": RING, "value": ([0, 1], [("leaf",)])}),
+        ("is_pointed_paper", {"web": RING, "path": [1], "form": RING, "value": ([1, 0], [("split",), ("leaf",)])}),
+        ("is_name_paper", {"web": RING, "form": RING, "value": ([1, 0], [("split",), ("like", 0, [1, 0, 3, 2])])}),
+        ("pointed_paper", {"web": RING, "path": [1]}), ("pointed_paper", {"web": RING, "path": [1, 0]}),
+        ("name_paper", {"web": PATCH}), ("plain_paper", {"web": RING, "path": [1]}),
+    ],
+    "levels": [
+        ("view", {"web": NET, "path": [1]}), ("settled_hand", {"web": NET, "path": [1], "part": 1}),
+        ("settled_sides", {"web": NET, "path": [1], "a": 2, "b": 1}),
+        ("leading", {"web": RING, "path": [0], "other": RING, "way": [1]}),
+        ("apart_tree", {"web": HANDED, "path": [1, 2], "other": HANDED, "way": [2, 1]}),
+        ("is_apart_tree", {"web": HANDED, "path": [1], "other": HANDED, "way": [2], "value": ("split", [("view",)] * 3)}),
+        ("level_path", {"web": RING, "path": [1]}), ("level_path", {"web": RING, "path": [1, 0]}),
+    ],
+    "symmetric": [
+        ("orbit_at", {"web": RING, "path": [1], "part": 0}), ("keeping_count", {"web": RING, "path": [1]}),
+        ("symmetry_count", {"web": RING}), ("symmetries", {"web": RING}), ("all_symmetries", {"web": RING}),
+        ("all_symmetries", {"web": NET}), ("symmetries_by_leaves", {"web": RING}), ("part_orbits", {"web": RING}),
+        ("tie_orbits", {"web": RING}), ("numbering_count", {"web": RING}),
+    ],
+    "sympapers": [
+        ("symmetry_paper", {"web": PATCH}), ("is_symmetry_paper", {"web": SWAP, "value": SWAPS}),
+        ("paper_count", {"value": SWAPS}), ("sifted", {"web": SWAP, "value": SWAPS, "numbering": [1, 0]}),
+        ("from_choices", {"web": SWAP, "value": SWAPS, "choices": [1]}),
+        ("from_choices", {"web": SWAP, "value": SWAPS, "choices": [0]}),
+    ],
+    "handed": [
+        ("seats", {"web": NET}), ("own_setting", {"web": NET}), ("is_setting", {"web": NET, "value": [1, 1, -1]}),
+        ("put_setting", {"web": NET, "setting": [1, 1, -1]}), ("contrary", {"web": NET, "setting": [1, 1, -1]}),
+        ("put_hand", {"web": NET, "part": 0, "sign": 1}), ("put_side", {"web": NET, "a": 1, "b": 2, "sign": -1}),
+        ("is_own_mirror", {"web": NET}), ("mirror_pairing", {"web": HANDED}), ("counts_hand", {"web": NET, "part": 1}),
+        ("counts_side", {"web": NET, "a": 1, "b": 2}), ("hand_choices", {"web": NET}), ("side_choices", {"web": NET}),
+    ],
+    "loose": [
+        ("is_loose", {"web": HANDED, "value": [0, 2, 1, 3, 4]}), ("loose_symmetries", {"web": HANDED}),
+        ("move_of", {"web": HANDED, "numbering": [0, 2, 1, 3, 4]}),
+        ("led_setting", {"move": ([1, 0], [1, -1]), "setting": [1, 1]}), ("moves", {"web": HANDED}),
+        ("counts_by_moves", {"web": HANDED, "seat": ("hand", 0)}), ("is_own_mirror_by_moves", {"web": HANDED}),
+    ],
+    "settings": [
+        ("all_settings", {"web": NET}), ("settings", {"web": NET}), ("setting_class", {"web": NET, "setting": [1, 1, -1]}),
+        ("least_settings", {"web": NET}), ("setting_count", {"web": NET}), ("mirror_counts", {"web": NET}),
+        ("mirror_pairs", {"web": NET}), ("own_mirror_settings", {"web": NET}), ("own_mirror_settings", {"web": HANDED}),
+    ],
+    "centres": [
+        ("is_tree_shaped", {"web": ROW}), ("plain_centres", {"web": ROW, "part": 1}), ("centres", {"web": ROW, "part": 1}),
+    ],
+    "lays": [
+        ("parents", {"web": ROW, "root": 2}), ("lay_count", {"web": ROW, "root": 2}), ("lays", {"web": ROW, "root": 2}),
+        ("lay_code", {"web": ROW, "root": 2, "lay": [[], [], [1, 0, 3], [4, 5], [], []]}),
+        ("plain_code", {"web": ROW, "root": 2}), ("plain_count", {"web": ROW, "root": 2}),
+    ],
+}
+
+# Each class with its parameters, as the interface has them, and with its methods; properties stand behind them.
+CLASSES = {
+    "worklists": ("Parting", {"web": NET, "colouring": [0] * 6}, ["step", "cell_list"], ["is_done", "many"]),
+    "search": ("Search", {"web": RING, "path": [], "most": 100},
+               ["turn", "best", "found", "waiting", "nodes", "has_ended"], []),
 }
 
 
@@ -179,7 +306,8 @@ class Calls(unittest.TestCase):
     def test_questions_return_bools(self):
         for function, given in each_call():
             name = function.__name__
-            if name.startswith(("is_", "has_", "can_")) or name in ("paper_has", "keeps_sequence"):
+            questions = ("paper_has", "keeps_sequence", "counts_hand", "counts_side", "counts_by_moves")
+            if name.startswith(("is_", "has_", "can_")) or name in questions:
                 self.assertIs(type(function(**given)), bool)
             else:
                 self.assertNotIsInstance(function(**given), bool)
@@ -188,10 +316,40 @@ class Calls(unittest.TestCase):
         self.assertEqual(ring_rank(NET), 2)
 
 
+class Classes(unittest.TestCase):
+    def test_defined_as_listed(self):
+        for name, (title, given, methods, properties) in CLASSES.items():
+            found = getattr(importlib.import_module("webnames." + name), title)
+            self.assertEqual(found.__module__, "webnames." + name)
+            self.assertEqual(list(inspect.signature(found).parameters), list(given))
+            for method in methods:
+                self.assertTrue(inspect.isfunction(vars(found)[method]))
+                self.assertEqual(list(inspect.signature(vars(found)[method]).parameters), ["self"])
+            for attribute in properties:
+                self.assertIsInstance(vars(found)[attribute], property)
+
+    def test_arguments_stay_and_results_are_new(self):
+        for name, (title, given, methods, properties) in CLASSES.items():
+            found = getattr(importlib.import_module("webnames." + name), title)
+            before = copy.deepcopy(given)
+            one, two = found(**given), found(*given.values())
+            told = []
+            for _ in range(12):
+                for method in methods:
+                    first, second = getattr(one, method)(), getattr(two, method)()
+                    self.assertTrue(same_kinds(first, second), method)
+                    told += lists_in(first) + lists_in(second)
+                for attribute in properties:
+                    self.assertTrue(same_kinds(getattr(one, attribute), getattr(two, attribute)))
+            held = lists_in(tuple(given.values()))
+            self.assertEqual(len({id(x) for x in told + held}), len(told) + len({id(x) for x in held}))
+            self.assertTrue(all(same_kinds(given[x], before[x]) for x in given))
+
+
 class Sequence(unittest.TestCase):
     def test_invalid_many_goes_first(self):
         for function, given in each_call():
-            if "many" in given and function.__name__ != "is_colouring":
+            if "many" in given and function.__name__ not in ("is_colouring", "led"):
                 # With other arguments in which a later look would find a fault.
                 for many in (25, -1, True, None, "4"):
                     rest = {name: [[9, 9]] if name in ("numberings", "rows", "value") else value
