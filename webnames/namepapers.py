@@ -48,7 +48,7 @@ class Reading:
         """Takes the path that waits first away."""
         self.queue.pop()
 
-    def split(self, traces, colouring):
+    def go_below(self, traces, colouring):
         """Takes the path that waits first away and lets its branches wait; traces and colouring are its own."""
         path = self.queue.pop()[0]
         for part in reversed(target_of(colouring)):
@@ -93,7 +93,7 @@ def takes_row(reading, row, form):
         return False
     traces, colouring = reading.opened()
     if row[0] == "split" and target_of(colouring) is not None:
-        reading.split(traces, colouring)
+        reading.go_below(traces, colouring)
         return traces == reading.best_traces[:len(traces)]
     reading.pass_over()
     if row[0] == "later":
@@ -162,7 +162,7 @@ def written_word(reading):
     if target_of(colouring) is None:
         reading.pass_over()
         return "leaf"
-    reading.split(traces, colouring)
+    reading.go_below(traces, colouring)
     return "split"
 
 
