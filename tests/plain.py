@@ -79,6 +79,14 @@ def ring_with(leaps):
 # Twelve parts with three ties each and no symmetry but the straight one.
 FRUCHT = ring_with((-5, -2, -4, 2, 5, -2, 2, 5, -2, -5, 4, 2))
 
+# Ten parts of three ties each, of which any two without a tie have one neighbour in common.
+PETERSEN = ([K] * 10, sorted([(k, k + 1, 1) for k in range(4)] + [(0, 4, 1)] + [(k, k + 5, 1) for k in range(5)] +
+            [(5, 7, 1), (7, 9, 1), (6, 9, 1), (6, 8, 1), (5, 8, 1)]), [], [])
+# Ten parts of three ties each, with a hand each; below the first target some leaves are one choice deeper.
+UNEVEN = ([K] * 10, [(0, 1, 1), (0, 4, 1), (0, 7, 1), (1, 2, 1), (1, 9, 1), (2, 5, 1), (2, 6, 1), (3, 4, 1), (3, 8, 1),
+          (3, 9, 1), (4, 6, 1), (5, 7, 1), (5, 8, 1), (6, 7, 1), (8, 9, 1)],
+          list(enumerate((-1, -1, 1, -1, -1, 1, -1, -1, -1, -1))), [])
+
 SHAPES = [
     alone(0), alone(1), alone(2), alone(5), row(2), row(3), row(5, orders=(1, 2)), ring(3), ring(4), ring(6),
     beside(ring(3), ring(3)), beside(ring(3), ring(4)), star(3), star(3, 1), star(3, -1), star(4), star(4, 1), star(5),

@@ -182,6 +182,7 @@ class Choices(unittest.TestCase):
         self.assertEqual(side_choices(plain.double(1)), [])
         unlike = ([("c", 0), ("a", 0), ("b", 0), ("d", 0)], plain.star(3)[1], [], [])
         self.assertEqual(hand_choices(unlike), [0])
+        self.assertEqual(hand_choices(renumbered(unlike, [3, 0, 1, 2])), [3])
         self.assertEqual(hand_choices(plain.star(3)), [])
         self.assertEqual((hand_choices(plain.alone(0)), side_choices(plain.alone(0))), ([], []))
 

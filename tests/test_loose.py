@@ -111,7 +111,7 @@ class Loose(unittest.TestCase):
 class ByMoves(unittest.TestCase):
     def test_by_moves(self):
         seen = set()
-        for web in small(324):
+        for web in small(324) + [plain.twins((1, 1)), plain.twins((1, -1)), plain.beside(plain.double(), plain.double(-1))]:
             for seat in plain_seats(web):
                 expected = counts_hand(web, seat[1]) if seat[0] == "hand" else counts_side(web, *seat[1:])
                 self.assertIs(counts_by_moves(web, seat), expected)

@@ -143,6 +143,19 @@ class Right(unittest.TestCase):
         self.assertEqual(plain_paper(empty, []), ([], [("leaf",)]))
         self.assertIs(is_name_paper(empty, empty, ([], [("leaf",)])), True)
 
+    def test_likes_by_several_steps(self):
+        # Symmetries that keep a part turn three others here, so some rows are like by two found ones.
+        rng = random.Random(277)
+        four = (plain.all_tied(4)[0], plain.all_tied(4)[1], [(0, 1), (1, -1), (2, 1), (3, -1)], [])
+        for web in (plain.star(4, 1), plain.beside(plain.star(4, 1), plain.star(4, -1)), four, plain.cube(),
+                    plain.beside(plain.star(3, 1), plain.star(3, 1)), plain.beside(four, four), plain.PETERSEN):
+            for _ in range(12):
+                far = renumbered(web, some_numbering(rng, len(web[0])))
+                paper = name_paper(far)
+                self.assertIs(is_name_paper(far, quick_form(far), paper), True)
+                for row in paper[1]:
+                    self.assertTrue(row[0] != "like" or is_pairing(far, far, row[2]))
+
     def test_24_parts(self):
         for web in (plain.alone(24), plain.ring(24), plain.beside(*[plain.ring(3)] * 8), plain.ladder(12),
                     plain.beside(*[plain.star(3, sign) for sign in (1, -1, 1, 1, -1, 1)]), plain.twins((1, -1, 1, 1, -1, 1))):
@@ -214,6 +227,34 @@ class Faults(unittest.TestCase):
                     far = renumbered(web, colouring)
                     self.check(web, path, far, value, plain_fault(web, path, far, value))
                     self.check(web, path, far, paper, None if far == told else "form")
+
+    def test_leaves_of_unlike_depth(self):
+        # Leaves below the same target, some of them one choice deeper, with unlike traces.
+        wrong = 0
+        webs = (plain.ring_with((4, -2, 4, 2) * 2), plain.UNEVEN)
+        for web, best, colouring in [(web, *leaf) for web in webs for leaf in plain.leaves(web, [])]:
+            self.assertGreater(len({len(leaf) for leaf, _ in plain.leaves(web, [])}), 1)
+            best_traces = plain.traces(web, best)
+            waits, rows = [[]], []
+            while waits:
+                here = waits.pop(0)
+                cell = plain.target(plain.colouring_of(web, here))
+                if plain.traces(web, here) > best_traces[:len(here) + 1]:
+                    rows.append(("later",))
+                elif cell is None:
+                    rows.append(("leaf",))
+                else:
+                    rows.append(("split",))
+                    waits = [here + [part] for part in cell] + waits
+            told = renumbered(web, colouring)
+            expected = plain_fault(web, [], told, (best, rows))
+            self.check(web, [], told, (best, rows), expected)
+            wrong += expected is not None
+            for place in range(len(rows)):
+                for word in ("leaf", "split", "later"):
+                    value = (best, rows[:place] + [(word,)] + rows[place + 1:])
+                    self.check(web, [], told, value, plain_fault(web, [], told, value))
+        self.assertGreater(wrong, 3)
 
     def test_the_sequence(self):
         web = plain.ring(3)

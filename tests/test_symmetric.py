@@ -7,6 +7,7 @@ from math import factorial
 from tests import plain
 from tests.helper import group_of, some_numbering, some_webs
 from tests.test_fulltree import few_leaves
+from webnames.chains import group_order
 from webnames.errors import TooMany
 from webnames.leastforms import all_alike
 from webnames.numberings import is_pairing, renumbered
@@ -122,6 +123,7 @@ class Greatest(unittest.TestCase):
             makers = symmetries(far)
             self.assertLessEqual(len(makers), len(web[0]))
             self.assertTrue(all(is_pairing(far, far, p) for p in makers))
+            self.assertEqual(group_order(len(web[0]), makers), number)
             self.assertEqual(sum(len(orbit) for orbit in part_orbits(far)), len(web[0]))
             self.assertEqual(sum(len(orbit) for orbit in tie_orbits(far)), len(web[1]))
         self.assertEqual(part_orbits(plain.alone(24)), [list(range(24))])
@@ -129,6 +131,21 @@ class Greatest(unittest.TestCase):
         self.assertEqual(keeping_count(plain.alone(24), [3, 5]), factorial(22))
         self.assertEqual(orbit_at(plain.ring(24), [0], 5), [5, 19])
         self.assertEqual(symmetries(plain.FRUCHT), [])
+
+    def test_makers_and_members(self):
+        # Rings, prisms and the like, in any numbering: few symmetries that keep a part.
+        rng = random.Random(296)
+        webs = [plain.PETERSEN] + [plain.ring(many) for many in (5, 6, 7, 8, 9, 12)] + [plain.cube(), plain.ring_with((3, -2, 2) * 2)]
+        webs += [plain.beside(plain.ring(3), plain.ring(3)), plain.beside(plain.star(4, 1), plain.star(4, -1))]
+        webs += [plain.ring_with((4,) * 8), plain.ring_with((3,) * 6), plain.ring_with((5, -5) * 7), plain.all_tied(6)]
+        webs += [(plain.all_tied(4)[0], plain.all_tied(4)[1], list(enumerate(signs)), []) for signs in plain.all_signs(4)]
+        for web in webs:
+            for _ in range(4):
+                far = renumbered(web, some_numbering(rng, len(web[0])))
+                members = all_symmetries(far)
+                self.assertEqual(len({tuple(p) for p in members}), symmetry_count(web))
+                self.assertTrue(all(is_pairing(far, far, p) for p in members))
+                self.assertEqual(group_of(len(far[0]), symmetries(far)), {tuple(p) for p in members})
 
     def test_signs_that_make_many_leaves(self):
         # The search of stage 8 goes beyond its limit here; the symmetries are told all the same.
