@@ -149,7 +149,7 @@ class Right(unittest.TestCase):
         four = (plain.all_tied(4)[0], plain.all_tied(4)[1], [(0, 1), (1, -1), (2, 1), (3, -1)], [])
         for web in (plain.star(4, 1), plain.beside(plain.star(4, 1), plain.star(4, -1)), four, plain.cube(),
                     plain.beside(plain.star(3, 1), plain.star(3, 1)), plain.beside(four, four), plain.PETERSEN):
-            for _ in range(12):
+            for _ in range(40):
                 far = renumbered(web, some_numbering(rng, len(web[0])))
                 paper = name_paper(far)
                 self.assertIs(is_name_paper(far, quick_form(far), paper), True)
