@@ -31,6 +31,10 @@ class PlainColours:
         """What is compared of a path with this colouring: its trace."""
         return tuple(trace_of(colouring))
 
+    def choices(self, colouring):
+        """The parts that branches put behind a path with this colouring, None at a leaf: its target."""
+        return target_of(colouring)
+
 
 class Search:
     """The search of a web under a path, turn by turn.
@@ -89,11 +93,11 @@ class Search:
         """The word of a turn at a path that is not spared, and what the turn changes."""
         if self.best_key is not None and is_later(traces, self.best_key[0]):
             return "later"
-        target = target_of(colouring)
-        if target is None:
+        choices = self.colours.choices(colouring)
+        if choices is None:
             return self.visit_leaf(path, traces, colouring)
         known = len(self.symmetries_found)
-        self.queue.extend([(path + [part], traces, colouring, known) for part in reversed(target)])
+        self.queue.extend([(path + [part], traces, colouring, known) for part in reversed(choices)])
         return "split"
 
     def visit_leaf(self, path, traces, colouring):

@@ -76,6 +76,18 @@ class StrongColours:
         hands, ties = self.hand_codes(colouring), self.tie_codes(colouring)
         return tuple([(len(cell), hands[cell[0]], tuple(ties[cell[0]])) for cell in cells_of(colouring)])
 
+    def choices(self, colouring):
+        """The parts that branches put behind a path with this colouring, None at a leaf.
+
+        That is those of the target behind which the least is shown; what symmetries lead to one another is so alike.
+        """
+        target = target_of(colouring)
+        if target is None:
+            return None
+        told = [self.shown(self.beyond(colouring, part)) for part in target]
+        least = min(told)
+        return [part for part, shown in zip(target, told) if shown == least]
+
 
 def strong_search(web, path):
     """The search of a web under a path at its end, by strong colourings, however many nodes it takes."""
@@ -104,8 +116,8 @@ def pairing_leading(web, path, other, way):
 class Keepers:
     """The symmetries of a web that keep a path.
 
-    levels has `(path, base, orbit)` for the path and for each one with the least part of its target behind it,
-    down to a leaf that is left out: the orbit of the base under the symmetries that keep that path.
+    levels has `(path, base, orbit)` for the path and for each one with the least of its choices behind it, down to
+    a leaf that is left out: the orbit of the base under the symmetries that keep that path.
     """
 
     def __init__(self, web, path):
@@ -116,13 +128,13 @@ class Keepers:
         colours = StrongColours(web)
         colouring = colours.opening(path)[-1]
         here = list(path)
-        target = target_of(colouring)
-        while target is not None:
-            base = target[0]
+        choices = colours.choices(colouring)
+        while choices is not None:
+            base = choices[0]
             self.levels.append((here, base, orbit_under(keepers(self.found, here), base)))
             here = here + [base]
             colouring = colours.beyond(colouring, base)
-            target = target_of(colouring)
+            choices = colours.choices(colouring)
 
     def order(self):
         """How many symmetries keep the path."""
