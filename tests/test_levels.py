@@ -79,6 +79,15 @@ def pairs_of_paths(seed):
             other = rng.choice(webs)
             if len(other[0]) >= len(path):
                 yield web, path, other, rng.sample(range(len(other[0])), len(path))
+    # Unlike webs that no view parts at once.
+    four = plain.all_tied(4)
+    for signs in plain.all_signs(4):
+        for path, way in (([], []), ([0], [3])):
+            yield (four[0], four[1], [(k, 1) for k in range(4)], []), path, (four[0], four[1], list(enumerate(signs)), []), way
+    for web, other in ((plain.ring(6), plain.beside(plain.ring(3), plain.ring(3))),
+                       (plain.ring_with((3, -2, 2) * 2), plain.ring_with((3,) * 6))):
+        yield web, [], other, []
+        yield other, [], web, []
 
 
 class Views(unittest.TestCase):
