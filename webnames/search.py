@@ -54,6 +54,7 @@ class Search:
         self.symmetries_found = []
         # The colouring of each leaf that was seen, by its key in tuples.
         self.seen = {}
+        self.known_rows = {}
         self.best_key = None
         self.best_path = None
         self.begin(PlainColours(self.web), path)
@@ -102,7 +103,9 @@ class Search:
 
     def visit_leaf(self, path, traces, colouring):
         """The word of a turn at a leaf, and what the turn changes."""
-        key = (traces, tuple([tuple(rows) for rows in renumbered(self.web, colouring)]))
+        told = renumbered(self.web, colouring)
+        # Equal rows are kept once, as very many leaves may be seen.
+        key = (traces, tuple([tuple([self.known_rows.setdefault(row, row) for row in rows]) for rows in told]))
         if key in self.seen:
             self.symmetries_found.append(then(self.seen[key], back(colouring)))
             return "found"
