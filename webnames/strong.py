@@ -99,12 +99,18 @@ def strong_search(web, path):
     return search
 
 
+def seen_at_once(web, path):
+    """What is told without a search, and is equal where a pairing leads a path to another one, part by part."""
+    colours = StrongColours(web)
+    return (sorted(web[0]), [colours.shown(colouring) for colouring in colours.opening(path)])
+
+
 def pairing_leading(web, path, other, way):
     """A pairing of the web with the other one that leads path to way, part by part, None if there is none.
 
     By the best leaves below both: each part of a path has the same colour at all leaves below it.
     """
-    if len(web[0]) != len(other[0]):
+    if seen_at_once(web, path) != seen_at_once(other, way):
         return None
     first, second = strong_search(web, path), strong_search(other, way)
     if first.best_key != second.best_key:
