@@ -9,7 +9,7 @@ FOLDER = os.path.join(os.path.dirname(os.path.dirname(os.path.abspath(__file__))
 BUILTINS = set(
     "len range enumerate zip min max sum abs sorted reversed int str bool bytes list tuple dict set isinstance ord "
     "repr any all divmod pow Exception ValueError TypeError KeyError IndexError LookupError ZeroDivisionError "
-    "ArithmeticError OverflowError RuntimeError NotImplementedError map iter next property".split())
+    "ArithmeticError OverflowError RuntimeError NotImplementedError map iter next property staticmethod".split())
 METHODS = set(
     "append clear copy count endswith extend find get index insert isalnum isalpha isdigit islower isspace isupper "
     "items join keys ljust lower lstrip partition pop remove replace reverse rfind rjust rpartition rsplit rstrip "
@@ -82,7 +82,7 @@ class Form(unittest.TestCase):
             if isinstance(node, ast.FunctionDef):
                 self.assertLessEqual(node.end_lineno - node.lineno + 1, 40, (name, node.name))
                 for mark in node.decorator_list:
-                    self.assertEqual(ast.dump(mark), ast.dump(ast.Name("property", ast.Load())))
+                    self.assertIn(ast.unparse(mark), ("property", "staticmethod"))
 
     def test_imports(self):
         needs = {name: set() for name in TREES}
@@ -134,12 +134,78 @@ class Form(unittest.TestCase):
             self.assertFalse(named & BARRED, name)
 
     def test_properties(self):
-        properties = {node.name for _, node in all_nodes() if isinstance(node, ast.FunctionDef) and node.decorator_list}
+        marked = [node for _, node in all_nodes() if isinstance(node, ast.FunctionDef) and node.decorator_list]
+        properties = {node.name for node in marked if ast.unparse(node.decorator_list[0]) == "property"}
+        static = {node.name for node in marked} - properties
+        plain = {x.name for _, node in all_nodes() if isinstance(node, ast.ClassDef) for x in node.body
+                 if isinstance(x, ast.FunctionDef) and not x.decorator_list}
+        self.assertFalse(properties & plain)
+        self.assertFalse(static & (plain | properties))
+        self.assertFalse((properties | static) & METHODS)
         for name, node in all_nodes():
             if isinstance(node, ast.Attribute) and isinstance(node.ctx, ast.Store):
-                self.assertNotIn(node.attr, properties, (name, node.lineno))
-        names = [node.id for _, node in all_nodes() if isinstance(node, ast.Name) and node.id == "property"]
-        self.assertEqual(len(names), 2)
+                self.assertNotIn(node.attr, properties | static, (name, node.lineno))
+        # As names they stand over methods only.
+        names = [node.id for _, node in all_nodes() if isinstance(node, ast.Name)]
+        self.assertEqual(len([name for name in names if name in ("property", "staticmethod")]), len(marked))
+
+    def test_properties_call_no_name_that_is_an_attribute_too(self):
+        stored = {node.attr for _, node in all_nodes() if isinstance(node, ast.Attribute) and isinstance(node.ctx, ast.Store)}
+        for name, node in all_nodes():
+            if isinstance(node, ast.FunctionDef) and node.decorator_list:
+                for inner in ast.walk(node):
+                    if isinstance(inner, ast.Call) and isinstance(inner.func, ast.Attribute):
+                        self.assertNotIn(inner.func.attr, stored, (name, node.name))
+
+    def test_what_is_iterated_at_once(self):
+        # range, zip, enumerate, reversed and views are gone over where they stand; generator expressions, too.
+        takers = {"list", "tuple", "dict", "sorted", "sum", "any", "all", "enumerate", "zip", "min", "max", "reversed", "len"}
+        for name, tree in TREES.items():
+            allowed = set()
+            for node in ast.walk(tree):
+                if isinstance(node, (ast.For, ast.comprehension)):
+                    allowed.add(id(node.iter))
+                if isinstance(node, ast.Call):
+                    taker = node.func.id if isinstance(node.func, ast.Name) else None
+                    joined = isinstance(node.func, ast.Attribute) and node.func.attr == "join"
+                    if taker in takers | {"permutations", "combinations"} or joined:
+                        allowed |= {id(x) for x in node.args}
+            for node in ast.walk(tree):
+                where = (name, getattr(node, "lineno", 0))
+                if isinstance(node, ast.GeneratorExp):
+                    self.assertIn(id(node), allowed, where)
+                if isinstance(node, ast.Call):
+                    called = node.func.id if isinstance(node.func, ast.Name) else getattr(node.func, "attr", None)
+                    lazy = ("range", "zip", "enumerate", "reversed", "items", "keys", "values", "permutations", "combinations")
+                    if called in lazy:
+                        self.assertIn(id(node), allowed, where)
+
+    def test_errors_are_made_where_they_are_raised(self):
+        made = {node.name for node in ast.walk(TREES["errors.py"]) if isinstance(node, ast.ClassDef)}
+        for name, node in all_nodes():
+            if isinstance(node, ast.Raise):
+                self.assertIsInstance(node.exc, ast.Call, (name, node.lineno))
+                self.assertIn(node.exc.func.id, made, (name, node.lineno))
+            if isinstance(node, ast.ExceptHandler):
+                caught = node.type.elts if isinstance(node.type, ast.Tuple) else [node.type]
+                self.assertTrue({x.id for x in caught} <= made, (name, node.lineno))
+
+    def test_tables_name_what_is_defined_above(self):
+        for name, tree in TREES.items():
+            above = set()
+            for node in tree.body:
+                if isinstance(node, ast.Assign):
+                    used = {x.id for x in ast.walk(node.value) if isinstance(x, ast.Name)}
+                    self.assertTrue(used <= above, (name, node.lineno))
+                    inside = [x for x in ast.walk(node.value) if isinstance(x, (ast.List, ast.Dict)) and x is not node.value]
+                    self.assertFalse(inside, (name, node.lineno))
+                elif hasattr(node, "name"):
+                    above.add(node.name)
+
+    def test_lambdas_stand_alone_in_their_lines(self):
+        for name, tree in TREES.items():
+            lines = [node.lineno for node in ast.walk(tree) if isinstance(node, ast.Lambda)]
+            self.assertEqual(len(set(lines)), len(lines), name)
 
     def test_methods_are_no_attributes(self):
         for name, node in all_nodes():

@@ -1,6 +1,6 @@
 """Sums of tie sets, independent rings, and least bases with their papers."""
 
-from webnames.basics import is_tuple_of
+from webnames.basics import is_tuple_of, mask_of
 from webnames.rings import is_ring, is_tie_set, ring_form, ring_rank, ring_ties, rings_to
 from webnames.webs import MOST_PARTS
 
@@ -13,14 +13,6 @@ def sum_of(first, second):
 def is_odd(first, second):
     """Whether two tie sets have an odd number of ties in common."""
     return len([place for place in first if place in second]) & 1 == 1
-
-
-def mask_of(places):
-    """The number whose bits tell the places of the list, so that sums are taken at once."""
-    mask = 0
-    for place in places:
-        mask = mask | (1 << place)
-    return mask
 
 
 def places_of(mask):

@@ -73,3 +73,11 @@ def are_unlike_numbers(value, many):
     if not isinstance(value, list) or not all(is_number_below(x, many) for x in value):
         return False
     return len(set(value)) == len(value)
+
+
+def mask_of(places):
+    """The number whose bits tell the places of the list, so that many are looked at at once."""
+    mask = 0
+    for place in places:
+        mask = mask | (1 << place)
+    return mask

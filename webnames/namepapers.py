@@ -28,13 +28,13 @@ class Reading:
         """Whether a path waits."""
         return len(self.queue) > 0
 
-    def first(self):
+    def foremost(self):
         """The path that waits first."""
         return self.queue[-1][0]
 
     def is_first_given(self):
         """Whether the path that waits first is the given one."""
-        return len(self.first()) == self.start
+        return len(self.foremost()) == self.start
 
     def opened(self):
         """`(traces, colouring)` of the path that waits first."""
@@ -107,7 +107,7 @@ def is_like(reading, part, numbering):
     """Whether any two values make a row "like" for the path that waits first."""
     if reading.is_first_given():
         return False
-    path = reading.first()
+    path = reading.foremost()
     if not is_number_below(part, path[-1]) or not is_pairing(reading.web, reading.web, numbering):
         return False
     return numbering[part] == path[-1] and all(numbering[other] == other for other in path[:-1])
@@ -144,7 +144,7 @@ def written(web, path, best, symmetries):
     reading = Reading(web, path, best)
     rows = []
     while reading.waits():
-        like = None if reading.is_first_given() else like_row(web, reading.first(), symmetries)
+        like = None if reading.is_first_given() else like_row(web, reading.foremost(), symmetries)
         if like is not None:
             rows.append(like)
             reading.pass_over()
