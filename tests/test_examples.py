@@ -10,7 +10,7 @@ class Examples(unittest.TestCase):
         path = os.path.join(os.path.dirname(os.path.abspath(__file__)), "examples.txt")
         result = doctest.testfile(path, module_relative=False)
         self.assertEqual(result.failed, 0)
-        self.assertEqual(result.attempted, 107)
+        self.assertEqual(result.attempted, 160)
 
 
 if __name__ == "__main__":

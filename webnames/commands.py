@@ -2,6 +2,7 @@
 
 from webnames.basics import is_integer
 from webnames.deeds import is_deed
+from webnames.errors import kept
 from webnames.webs import is_web
 from webnames.words import is_part_name
 
@@ -62,7 +63,7 @@ def filled(question, webs):
     told = list(question)
     for place, web in zip(QUESTION_SHAPES[question[0]][1], webs):
         told[place] = web
-    return tuple(told)
+    return kept(tuple(told))
 
 
 def asks_numbers(question):

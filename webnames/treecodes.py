@@ -42,7 +42,7 @@ class Growing:
         return ((kind, mark, tie_order(self.web, parent, part), branches, hand, side), count)
 
     def rooted(self, root, row):
-        """`(code, count)`: the least code with these children of the root in this sequence, and how many lays give it."""
+        """`(code, count)`: the least code with the root's children in this sequence, and how many lays give it."""
         told = [self.least_branch(child, root, row) for child in row]
         self.lay[root] = row
         count = 1
