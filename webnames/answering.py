@@ -4,12 +4,11 @@ from webnames.bases import base_paper, plain_base
 from webnames.bounds import greatest_common
 from webnames.common import plain_size
 from webnames.commonpapers import no_greater_tree
-from webnames.errors import TooMany
 from webnames.judging import lengths_of, words_apart
 from webnames.levels import apart_tree, spot_at
 from webnames.matching import matches, matches_plain
 from webnames.mirrors import mirror, turned_hand
-from webnames.namepapers import name_paper
+from webnames.namepapers import endless_paper, name_paper
 from webnames.names import name
 from webnames.nomatch import no_match
 from webnames.numberings import renumbered
@@ -21,8 +20,8 @@ from webnames.sympapers import paper_count, symmetry_paper
 from webnames.ways import least_way
 from webnames.writer import name_text
 
-# An apart tree of no more tuples is made at once; beyond that name papers are tried first.
-SMALL_TREE = 2000
+# Beyond so many tuples of an apart tree name papers are made, which grow less fast with webs of like pieces.
+SMALL_TREE = 10000
 
 
 def plain_truth(question):
@@ -79,10 +78,7 @@ def unlike_paper(web, other):
     tree = tree_within(spot_at(web, []), spot_at(other, []), SMALL_TREE)[0]
     if tree is not None:
         return ("apart", tree)
-    try:
-        return names_paper(web, other)
-    except TooMany:
-        return ("apart", apart_tree(web, [], other, []))
+    return ("names",) + told_form(web, endless_paper(web)) + told_form(other, endless_paper(other))
 
 
 def tree_within(first, second, most):
@@ -105,15 +101,14 @@ def tree_within(first, second, most):
     return (("split", rows), rest)
 
 
-def form_and_paper(web):
-    """`(form, paper)`: the FORM of the web, and a name paper for it."""
-    paper = name_paper(web)
+def told_form(web, paper):
+    """`(form, paper)`: the form that a name paper of the web is for, and the paper."""
     return (renumbered(web, colouring_at(web, paper[0])), paper)
 
 
-def names_paper(web, other):
-    """The UNLIKE PAPER of two webs by their forms."""
-    return ("names",) + form_and_paper(web) + form_and_paper(other)
+def form_and_paper(web):
+    """`(form, paper)`: the FORM of the web, and a name paper for it."""
+    return told_form(web, name_paper(web))
 
 
 def answer_name(question):
@@ -177,7 +172,7 @@ def unlike_papers(web, other):
     """The list of UNLIKE PAPERS of two webs: those of words, that of the apart tree, one of names; none if alike."""
     if first_pairing(web, other) is not None:
         return []
-    by_names = names_paper(web, other)
+    by_names = ("names",) + form_and_paper(web) + form_and_paper(other)
     found = [("word", word) for word in words_apart(web, other)]
     return found + [("apart", apart_tree(web, [], other, [])), by_names]
 

@@ -5,7 +5,7 @@ from webnames.fulltree import best_of
 from webnames.numberings import is_pairing, renumbered
 from webnames.paths import colourings_to, is_path, target_of
 from webnames.prune import is_later, kept_orbit, led
-from webnames.search import PlainColours, ended_search
+from webnames.search import PlainColours, Search, ended_search
 from webnames.webs import is_web
 
 
@@ -132,6 +132,15 @@ def pointed_paper(web, path):
 def name_paper(web):
     """A name paper of the web, for its form."""
     return pointed_paper(web, [])
+
+
+def endless_paper(web):
+    """A name paper of the web, for its form, however many nodes the search takes."""
+    search = Search(web, [])
+    search.limit = None
+    while not search.has_ended():
+        search.turn()
+    return written(web, [], search.best(), search.found())
 
 
 def plain_paper(web, path):
