@@ -259,6 +259,9 @@ class Papers(unittest.TestCase):
         paper = answer(("rings", both, []))[1]
         self.assertEqual([is_yes_paper(("rings", both, lengths), paper) for lengths in ([3, 4], [4, 3])], [True, False])
         self.assertEqual([is_no_paper(("rings", both, lengths), paper) for lengths in ([3, 4], [4, 3])], [False, True])
+        # The rings of a paper may stand in any sequence that is right.
+        self.assertIs(is_yes_paper(("rings", both, [3, 4]), paper[::-1]), True)
+        self.assertIs(is_no_paper(("rings", both, [3, 4]), paper[::-1]), False)
         # No list has none pairs or more by a tree.
         self.assertIs(is_no_paper(("common", row, plain.alone(0), False, 0), ("bound",)), False)
         self.assertIs(is_no_paper(("common", row, plain.alone(0), False, 1), ("bound",)), True)

@@ -7,6 +7,7 @@ from tests import plain
 from tests.helper import lists_in, same_kinds, some_numbering, some_webs
 from tests.test_pairings import with_other_signs
 from tests.test_patterns import pattern_in, plain_matches
+from webnames.coarsest import card_of
 from webnames.errors import TakenLabel, TooMany, UnknownLabel
 from webnames.library import Library, plain_bare_same, plain_mirror_same, plain_same, plain_with_pattern
 from webnames.mirrors import bare, mirror
@@ -111,6 +112,16 @@ class LookUps(unittest.TestCase):
             self.assertTrue(same_kinds(plain_with_pattern(sorted(rows.items(), reverse=True), pattern), expected))
             answers.add((len(expected) > 1, len(expected) < len(rows)))
         self.assertTrue({(True, True), (True, False)} <= answers, answers)
+
+    def test_unlike_webs_with_equal_cards(self):
+        shelf = Library()
+        one, two = plain.ring(6), plain.beside(plain.ring(3), plain.ring(3))
+        self.assertEqual(card_of(one), card_of(two))
+        self.assertEqual([shelf.add(one, "a"), shelf.add(two, "b"), shelf.classes()], [[], [], [["a"], ["b"]]])
+        for function in (shelf.same, shelf.bare_same, shelf.mirror_same):
+            self.assertEqual([function(one), function(two)], [["a"], ["b"]])
+        for function in (plain_same, plain_bare_same, plain_mirror_same):
+            self.assertEqual([function(shelf.rows(), web) for web in (one, two)], [["a"], ["b"]])
 
     def test_too_many_tables(self):
         shelf = Library()

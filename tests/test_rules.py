@@ -146,6 +146,10 @@ class Rules(unittest.TestCase):
         self.assertEqual(applied(web, (two, [("drop", 1), ("mark", 0, 5)]), [2, 0])[0], [K, ("k", 5)])
         self.assertEqual(applied(web, (two, [("new", "a", 0), ("drop", 0), ("tie", 1, 2, 3), ("mark", 2, 1)]), [0, 2]),
                          ([K, K, ("a", 1)], [(0, 1, 1), (1, 2, 3)], [], []))
+        self.assertEqual(applied(web, (two, [("drop", 0), ("drop", 1), ("new", "a", 0)]), [0, 2]),
+                         ([K, ("a", 0)], [], [], []))
+        self.assertEqual(applied(plain.row(4), (([ANY] * 3, [], [], []), [("drop", 2), ("drop", 0), ("mark", 1, 7)]), [1, 3, 0])[0],
+                         [K, ("k", 7)])
         full = plain.alone(24)
         self.check_wrong(full, [("new", "a", 0)], [3], ("new", "a", 0))
         self.check_wrong(full, [("drop", 0), ("new", "a", 0), ("new", "b", 0)], [3], ("new", "b", 0))

@@ -137,17 +137,17 @@ class Quest:
     def __init__(self, web, joined):
         self.near = near_lists(len(web[0]), web[1])
         self.joined = joined
-        self.best = None
+        self.greatest = None
 
     def go_below(self, state):
         """Looks for a greater common list than the best so far below the state."""
-        if self.best is not None and state.bound() <= len(self.best):
+        if self.greatest is not None and state.bound() <= len(self.greatest):
             return
         if self.joined and is_apart_by(self.near, state.pairs, state.decided):
             return
         if state.is_whole():
             # Nothing is left, so it is joined as it is not apart, if it has to be.
-            self.best = state.pairs
+            self.greatest = state.pairs
             return
         for branch in reversed(state.branches()):
             self.go_below(branch)
@@ -158,7 +158,7 @@ def greatest_common(web, other, joined):
     check_both(web, other, MOST_FOR_SIZES)
     quest = Quest(web, joined)
     quest.go_below(state_at(web, other, [], 0))
-    return list(quest.best)
+    return list(quest.greatest)
 
 
 def common_size(web, other, joined):

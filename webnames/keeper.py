@@ -23,7 +23,7 @@ class Standing:
 
     def names_untouched(self, deed):
         """The names that are kept of the pieces that a deed does not touch, by the same keys."""
-        told = [] if deed[0] == "put" else [self.given[part] for part in numbers_of(deed)]
+        told = [self.given[part] for part in numbers_of(deed)]
         return {key: name for key, name in self.names_known.items() if not any([one in key for one in told])}
 
 

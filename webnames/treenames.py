@@ -41,7 +41,7 @@ class Layout:
         if side != 0:
             self.sides.append((parent, part, side))
 
-    def told(self):
+    def laid(self):
         """What is laid out, as a web."""
         return (self.parts, sorted(self.ties), self.hands, sorted(self.sides))
 
@@ -60,7 +60,7 @@ def laid_out(codes):
         root = layout.put(kind, mark, hand)
         for branch in branches:
             layout.put_below(root, branch)
-    return layout.told()
+    return layout.laid()
 
 
 def sign_mark(sign):
@@ -176,7 +176,7 @@ def web_read(text):
     """What a text tells if it is read as a tree name, None if it cannot be read; only trees have such names."""
     layout = Layout()
     if text == "":
-        return layout.told()
+        return layout.laid()
     scan = Scan(text)
     open_parts = [put_read(scan, layout)]
     while open_parts[-1] is not None and not scan.has_ended():
@@ -193,7 +193,7 @@ def web_read(text):
             open_parts = [put_read(scan, layout)]
         else:
             return None
-    return layout.told() if len(open_parts) == 1 and open_parts[0] is not None else None
+    return layout.laid() if len(open_parts) == 1 and open_parts[0] is not None else None
 
 
 def tree_named(value):
