@@ -81,3 +81,11 @@ def mask_of(places):
     for place in places:
         mask = mask | (1 << place)
     return mask
+
+
+def times(number, many):
+    """The product of so many factors, each of them the number; 1 for none."""
+    product = 1
+    for _ in range(many):
+        product *= number
+    return product

@@ -2,7 +2,7 @@
 
 from math import comb, factorial, gcd
 
-from webnames.basics import check_many
+from webnames.basics import check_many, times
 from webnames.errors import TooMany
 from webnames.leastforms import part_lots, rising_numberings
 from webnames.numberings import ends_led, then
@@ -15,14 +15,6 @@ def check_counted(parts, most):
     """Raises TooMany if there are more PARTS."""
     if len(parts) > most:
         raise TooMany("parts", most)
-
-
-def times(number, many):
-    """The number, multiplied with itself so many times; 1 for none."""
-    product = 1
-    for _ in range(many):
-        product *= number
-    return product
 
 
 def length_lists(many, least):

@@ -1,7 +1,7 @@
 """Deeds: changes of webs, what is lost by them, deeds renumbered, and rows of deeds that lead from web to web."""
 
 from webnames.basics import is_integer, is_number_below, is_sign, list_sign
-from webnames.errors import CannotDo
+from webnames.errors import CannotDo, kept
 from webnames.handed import put_hand, put_side
 from webnames.mirrors import hand_parts, side_ties
 from webnames.webs import (
@@ -231,7 +231,7 @@ ACTIONS = {
 
 def done_all(web, deeds):
     """The web with all deeds of a list done in sequence."""
-    web = (list(web[0]), list(web[1]), list(web[2]), list(web[3]))
+    web = kept(web)
     for deed in deeds:
         web = done(web, deed)
     return web

@@ -2,7 +2,7 @@
 
 
 def kept(value):
-    """The value with lists of its own, so that an error does not change when a list that it was given does."""
+    """The value with lists of its own, so that what is kept does not change when a list that was handed in does."""
     if isinstance(value, list):
         return [kept(x) for x in value]
     if isinstance(value, tuple):

@@ -2,7 +2,8 @@
 
 from itertools import combinations
 
-from webnames.counted import family_count, times
+from webnames.basics import times
+from webnames.counted import family_count
 from webnames.errors import TooMany
 from webnames.leastforms import least_by_parts
 from webnames.pieces import pieces

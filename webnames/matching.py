@@ -4,7 +4,7 @@ from itertools import permutations
 from math import perm
 
 from webnames.basics import mask_of
-from webnames.errors import NoCandidate, StillFits, TooMany
+from webnames.errors import NoCandidate, StillFits, TooMany, kept
 from webnames.patterns import candidates, fit_masks, is_match, let_go
 
 MOST_TABLES = 3000
@@ -15,8 +15,8 @@ class Sieve:
     """A table of the parts that may stand for the places of a pattern, at first all candidates."""
 
     def __init__(self, pattern, web):
-        self.pattern = copied(pattern)
-        self.web = copied(web)
+        self.pattern = kept(pattern)
+        self.web = kept(web)
         self.masks = fit_masks(pattern, web)
         self.table = candidates(pattern, web)
 
@@ -67,11 +67,6 @@ class Sieve:
         other = Sieve(self.pattern, self.web)
         other.table = [list(row) for row in self.table]
         return other
-
-
-def copied(lists):
-    """The tuple of copies of some lists."""
-    return tuple([list(row) for row in lists])
 
 
 def has_empty_row(table):

@@ -1,6 +1,6 @@
 """Orbits of parts, rows and pairs, and paintings that are one under a group."""
 
-from webnames.basics import check_many
+from webnames.basics import check_many, times
 from webnames.closing import images, way_to
 from webnames.errors import TooMany
 from webnames.numberings import rounds, straight
@@ -66,14 +66,6 @@ def orbit_count(many, numberings):
     return len(stay) // len(members)
 
 
-def painting_number(most, many):
-    """How many paintings of so many parts there are: most to the power of many."""
-    number = 1
-    for _ in range(many):
-        number *= most
-    return number
-
-
 def all_paintings(many, most):
     """The rising list of all paintings of so many parts, as tuples."""
     rows = [()]
@@ -86,7 +78,7 @@ def paintings(many, numberings, most):
     """The rising list of the least painting of each class of those that are one."""
     check_many(many, MOST_PARTS)
     check_many(most, MOST_PAINTS)
-    if painting_number(most, many) > MOST_PAINTINGS:
+    if times(most, many) > MOST_PAINTINGS:
         raise TooMany("paintings", MOST_PAINTINGS)
     seen = {}
     found = []
@@ -120,5 +112,5 @@ def painting_count(many, numberings, most):
     members = images(numberings, straight(many), "group")
     total = 0
     for member in members:
-        total += painting_number(most, len(rounds(member)))
+        total += times(most, len(rounds(member)))
     return total // len(members)

@@ -2,7 +2,7 @@
 
 from webnames.basics import check_many, is_tuple_of
 from webnames.deeds import can_do, done, is_deed, is_mark, numbers_of, with_numbers
-from webnames.errors import CannotDo, TooMany
+from webnames.errors import CannotDo, TooMany, kept
 from webnames.least import match_classes
 from webnames.patterns import is_pattern
 from webnames.search import quick_name
@@ -32,7 +32,7 @@ def is_rule_deed(value):
 
 def applied(web, rule, match):
     """The web that comes by applying the rule at a match."""
-    web = (list(web[0]), list(web[1]), list(web[2]), list(web[3]))
+    web = kept(web)
     # For each number of the rule's own the part for which it stands, None for one that was dropped.
     stands = list(match)
     for deed in rule[1]:
